@@ -2,6 +2,8 @@
 package vector
 
 import (
+	"math"
+
 	"dowel/api"
 	"dowel/integer"
 	"dowel/rational"
@@ -125,6 +127,9 @@ func Primitive(a Vec) (Vec, api.Errno) {
 	if IsZero(a) {
 		return Vec{}, api.ErrZero
 	}
+	if v, e := a.Integers(); e == api.OK && v[0] != math.MinInt && v[1] != math.MinInt && v[2] != math.MinInt {
+		return shorten(v), api.OK
+	}
 	over, under := integer.Int{}, integer.From(1)
 	for _, x := range a {
 		over = integer.Gcd(over, x.Num())
@@ -134,6 +139,21 @@ func Primitive(a Vec) (Vec, api.Errno) {
 	}
 	factor, _ := rational.Make(under, over)
 	return Scale(a, factor), api.OK
+}
+
+// shorten divides ints, not all 0, by their greatest common divisor.
+func shorten(v api.Vector) Vec {
+	divisor := 0
+	for _, n := range v {
+		for n != 0 {
+			divisor, n = n, divisor%n
+		}
+	}
+	divisor = max(divisor, -divisor)
+	for i := range v {
+		v[i] /= divisor
+	}
+	return Of(v)
 }
 
 // Parallel reports whether two vectors are multiples of one another, and neither is 0.
