@@ -122,6 +122,12 @@ func TestPairs(t *testing.T) {
 		if p.Status() != Status(Of(a), Of(b)) || p.Status() > Boxes(a.Vertices, b.Vertices) {
 			t.Fatalf("the status is %d, %d", p.Status(), Status(Of(a), Of(b)))
 		}
+		if x, y, is := p.Reversed().Open(vector.Neg(d)); true {
+			low, high, meets := PairOf(Of(b), Of(a)).Open(vector.Neg(d))
+			if is != meets || rational.Compare(x, low) != 0 || rational.Compare(y, high) != 0 {
+				t.Fatalf("the reversed pair has the interval %s, %s", x.Number(), y.Number())
+			}
+		}
 		at := func(time rational.Rat) int {
 			m := motion.Identity()
 			m.Shift = vector.Scale(d, time)

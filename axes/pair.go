@@ -24,6 +24,15 @@ func PairOf(a, b Body) Pair {
 	return p
 }
 
+// Reversed returns the pair of the same shapes in the other order.
+func (p Pair) Reversed() Pair {
+	q := Pair{make([]limit, len(p.limits))}
+	for i, l := range p.limits {
+		q.limits[i] = limit{l.normal, rational.Neg(l.high), rational.Neg(l.low)}
+	}
+	return q
+}
+
 // Status returns how the two shapes lie.
 func (p Pair) Status() int {
 	status := api.Meeting

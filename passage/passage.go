@@ -37,6 +37,28 @@ func Between(a, b []axes.Body) Solids {
 	return s
 }
 
+// Reversed returns the same solids in the other order.
+func (s Solids) Reversed() Solids {
+	var back Solids
+	for i, row := range s.cells {
+		for k, p := range row {
+			if i == 0 {
+				back.cells = append(back.cells, make([]axes.Pair, len(s.cells)))
+			}
+			back.cells[k][i] = p.Reversed()
+		}
+	}
+	return back
+}
+
+// At returns the pair of two cells; false if one of them does not exist.
+func (s Solids) At(from, to int) (axes.Pair, bool) {
+	if from < 0 || from >= len(s.cells) || to < 0 || to >= len(s.cells[from]) {
+		return axes.Pair{}, false
+	}
+	return s.cells[from][to], true
+}
+
 // Meeting is the open interval of the times at which a cell of the first solid meets one of the second one.
 type Meeting struct {
 	CellFrom, CellTo int

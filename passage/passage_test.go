@@ -47,6 +47,20 @@ func TestMeetings(t *testing.T) {
 	for range s.Meetings(d) {
 		break
 	}
+	if p, ok := s.At(1, 1); !ok {
+		t.Error("At")
+	} else if low, _, _ := p.Open(d); low.Number() != "-6" {
+		t.Errorf("At: %s", low.Number())
+	}
+	for _, l := range [][2]int{{-1, 0}, {0, -1}, {2, 0}, {0, 2}} {
+		if _, ok := s.At(l[0], l[1]); ok {
+			t.Errorf("At(%d)", l)
+		}
+	}
+	three := Of(of(t, [2]int{0, 1}), of(t, [2]int{2, 3}, [2]int{-4, -3})).Reversed()
+	if m, ok := three.First(d, func(m Meeting) bool { return m.CellFrom == 1 }); !ok || m.Low.Number() != "3" || m.High.Number() != "5" {
+		t.Errorf("Reversed: %v, %t", m, ok)
+	}
 	if arc, ok := s.Witness(d, api.Local); arc != (api.Arc{CellFrom: 1}) || !ok {
 		t.Errorf("Witness = %v, %t", arc, ok)
 	}
