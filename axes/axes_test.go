@@ -131,7 +131,11 @@ func TestPairs(t *testing.T) {
 		at := func(time rational.Rat) int {
 			m := motion.Identity()
 			m.Shift = vector.Scale(d, time)
-			return Status(Of(cell.Place(a, m)), Of(b))
+			status := Status(Of(cell.Place(a, m)), Of(b))
+			if got := p.Shifted(m.Shift).Status(); got != status {
+				t.Fatalf("the shifted pair has the status %d, not %d", got, status)
+			}
+			return status
 		}
 		low, high, meets := p.Open(d)
 		from, to, touches := p.Closed(d)

@@ -33,6 +33,16 @@ func (p Pair) Reversed() Pair {
 	return q
 }
 
+// Shifted returns the pair whose first shape has been translated.
+func (p Pair) Shifted(v vector.Vec) Pair {
+	q := Pair{make([]limit, len(p.limits))}
+	for i, l := range p.limits {
+		way := vector.Dot(l.normal, v)
+		q.limits[i] = limit{l.normal, rational.Sub(l.low, way), rational.Sub(l.high, way)}
+	}
+	return q
+}
+
 // Status returns how the two shapes lie.
 func (p Pair) Status() int {
 	status := api.Meeting

@@ -6,7 +6,7 @@ import (
 
 	"dowel/api"
 	"dowel/blocking"
-	"dowel/direction"
+	"dowel/outlook"
 )
 
 // set is a set of instances, as bits.
@@ -73,16 +73,16 @@ type move struct {
 
 // search keeps what has been found about the sets of an assembly, and the first error.
 type search struct {
-	scene  *blocking.Scene
-	kind   api.Kind
-	graphs map[api.Point]*blockers
-	planes map[set][]api.Point // of two instances
-	ways   map[set][]way
-	e      api.Errno
+	scene   *blocking.Scene
+	kind    api.Kind
+	outlook *outlook.Outlook
+	graphs  map[api.Point]*blockers
+	ways    map[set][]way
+	e       api.Errno
 }
 
 func newSearch(scene *blocking.Scene, kind api.Kind) *search {
-	return &search{scene, kind, map[api.Point]*blockers{}, map[set][]api.Point{}, map[set][]way{}, api.OK}
+	return &search{scene, kind, outlook.New(scene, kind), map[api.Point]*blockers{}, map[set][]way{}, api.OK}
 }
 
 // graph returns the blockers of all instances along a direction.
@@ -107,44 +107,16 @@ func (s *search) waysOf(r set) []way {
 	if l, ok := s.ways[r]; ok {
 		return l
 	}
-	directions := s.kind.Directions
-	if len(directions) == 0 {
-		directions = s.representatives(r)
+	directions, e := s.outlook.Directions(r.list())
+	if e != api.OK {
+		s.e = e
+		return nil
 	}
 	var l []way
 	for _, d := range directions {
 		l = append(l, way{d, s.graph(d)})
 	}
 	s.ways[r] = l
-	return l
-}
-
-// representatives returns those of the arrangement of the planes of a set.
-func (s *search) representatives(r set) []api.Point {
-	var all []api.Point
-	for pair := range r.subsets(2) {
-		planes, ok := s.planes[pair]
-		if !ok {
-			var e api.Errno
-			planes, e = s.scene.Planes(pair.list(), s.kind.Blocking)
-			if e != api.OK {
-				s.e = e
-				return nil
-			}
-			s.planes[pair] = planes
-		}
-		all = append(all, planes...)
-	}
-	planes, e := direction.Collect(all)
-	if e != api.OK {
-		s.e = e
-		return nil
-	}
-	cells, _ := direction.Cells(planes)
-	var l []api.Point
-	for _, c := range cells {
-		l = append(l, c.Direction)
-	}
 	return l
 }
 
