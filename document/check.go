@@ -2,12 +2,13 @@ package document
 
 import (
 	"dowel/api"
+	"dowel/naming"
 	"dowel/rational"
 )
 
 // Check returns the error of a product that is not well-formed.
 func Check(p api.Product) api.Errno {
-	if !isName(p.Name) {
+	if !naming.Is(p.Name) {
 		return api.ErrName
 	}
 	for _, check := range []func(api.Product) api.Errno{checkParts, checkInstances, checkDimensions, checkConstraints, checkRequirements} {
@@ -24,40 +25,15 @@ func CheckExpr(dimensions []api.Dimension, x api.Expr) api.Errno {
 	return checkExpr(len(dimensions), x, 1, &nodes)
 }
 
-// isName reports whether a string is a name.
-func isName(s string) bool {
-	for i := range len(s) {
-		if s[i] < 33 || s[i] > 126 {
-			return false
-		}
-	}
-	return len(s) > 0 && len(s) <= api.MaxName
-}
-
 func isWithin(n, most int) bool { return n >= -most && n <= most }
-
-// names are names that must not occur twice.
-type names map[string]bool
-
-// add returns the error of a further name.
-func (l names) add(name string) api.Errno {
-	if !isName(name) {
-		return api.ErrName
-	}
-	if l[name] {
-		return api.ErrDuplicate
-	}
-	l[name] = true
-	return api.OK
-}
 
 func checkParts(p api.Product) api.Errno {
 	if len(p.Assembly.Parts) > api.MaxParts {
 		return api.ErrLimit
 	}
-	earlier := names{}
+	earlier := naming.Set{}
 	for _, part := range p.Assembly.Parts {
-		if e := earlier.add(part.Name); e != api.OK {
+		if e := earlier.Add(part.Name); e != api.OK {
 			return e
 		}
 		if part.Density < 1 || part.Density > api.MaxSmall {
@@ -93,13 +69,13 @@ func checkInstances(p api.Product) api.Errno {
 	if len(p.Assembly.Instances) > api.MaxInstances {
 		return api.ErrLimit
 	}
-	parts := names{}
+	parts := naming.Set{}
 	for _, part := range p.Assembly.Parts {
 		parts[part.Name] = true
 	}
-	earlier := names{}
+	earlier := naming.Set{}
 	for _, i := range p.Assembly.Instances {
-		if e := earlier.add(i.Name); e != api.OK {
+		if e := earlier.Add(i.Name); e != api.OK {
 			return e
 		}
 		if !parts[i.Part] {
@@ -130,9 +106,9 @@ func checkDimensions(p api.Product) api.Errno {
 	if len(p.Dimensions) > api.MaxDimensions {
 		return api.ErrLimit
 	}
-	earlier := names{}
+	earlier := naming.Set{}
 	for _, d := range p.Dimensions {
-		if e := earlier.add(d.Name); e != api.OK {
+		if e := earlier.Add(d.Name); e != api.OK {
 			return e
 		}
 		for _, n := range []int{d.Nominal, d.Lower, d.Upper} {
@@ -151,9 +127,9 @@ func checkConstraints(p api.Product) api.Errno {
 	if len(p.Constraints) > api.MaxRequirements {
 		return api.ErrLimit
 	}
-	earlier := names{}
+	earlier := naming.Set{}
 	for _, c := range p.Constraints {
-		if e := earlier.add(c.Name); e != api.OK {
+		if e := earlier.Add(c.Name); e != api.OK {
 			return e
 		}
 		if e := checkForm(len(p.Dimensions), c.Form); e != api.OK {
@@ -167,9 +143,9 @@ func checkRequirements(p api.Product) api.Errno {
 	if len(p.Requirements) > api.MaxRequirements {
 		return api.ErrLimit
 	}
-	earlier := names{}
+	earlier := naming.Set{}
 	for _, r := range p.Requirements {
-		if e := earlier.add(r.Name); e != api.OK {
+		if e := earlier.Add(r.Name); e != api.OK {
 			return e
 		}
 		if e := CheckExpr(p.Dimensions, r.Gap); e != api.OK {

@@ -5,6 +5,7 @@ import (
 
 	"dowel/api"
 	"dowel/lexer"
+	"dowel/naming"
 )
 
 // Parse returns the product with a text, or the place and the kind of the first error.
@@ -87,7 +88,7 @@ func (r *reader) name(check func(name string) api.Errno) string {
 	switch {
 	case t.Kind != lexer.Word && t.Kind != lexer.String:
 		r.Fail(api.ErrSyntax)
-	case !isName(t.Text):
+	case !naming.Is(t.Text):
 		r.Fail(api.ErrName)
 	case check != nil:
 		r.Fail(check(t.Text))

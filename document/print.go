@@ -6,6 +6,7 @@ import (
 
 	"dowel/api"
 	"dowel/lexer"
+	"dowel/naming"
 )
 
 // Print returns the text of a product.
@@ -56,13 +57,13 @@ func checkNames(dimensions []api.Dimension) api.Errno {
 		return api.ErrLimit
 	}
 	for _, d := range dimensions {
-		if !isName(d.Name) {
+		if !naming.Is(d.Name) {
 			return api.ErrName
 		}
 	}
-	earlier := names{}
+	earlier := naming.Set{}
 	for _, d := range dimensions {
-		if e := earlier.add(d.Name); e != api.OK {
+		if e := earlier.Add(d.Name); e != api.OK {
 			return e
 		}
 	}

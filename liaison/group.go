@@ -5,21 +5,13 @@ import (
 
 	"dowel/api"
 	"dowel/graph"
+	"dowel/naming"
 )
 
 // Group is a subassembly of a hierarchy.
 type Group struct {
 	Name    string
 	Members []int
-}
-
-func isName(s string) bool {
-	for i := range len(s) {
-		if s[i] < 33 || s[i] > 126 {
-			return false
-		}
-	}
-	return len(s) > 0 && len(s) <= api.MaxName
 }
 
 // CheckGroups returns OK for a hierarchy of n instances.
@@ -40,7 +32,7 @@ func CheckGroups(l []Group, n int) api.Errno {
 
 // checkGroup returns the error of a group behind earlier ones.
 func checkGroup(earlier []Group, g Group, n int) api.Errno {
-	if !isName(g.Name) {
+	if !naming.Is(g.Name) {
 		return api.ErrName
 	}
 	if slices.ContainsFunc(earlier, func(o Group) bool { return o.Name == g.Name }) {

@@ -1,6 +1,8 @@
 package linear
 
 import (
+	"slices"
+
 	"dowel/api"
 	"dowel/integer"
 	"dowel/rational"
@@ -28,26 +30,30 @@ func solve(p program) outcome {
 
 // makeFeasible makes exchanges until no slack is negative, and returns -1; or a row by which one is always negative.
 //
-// Another goal is kept greatest meanwhile, at first the negative sum of the variables of the columns: an exchange takes the column by which it becomes less as slowly as possible.
+// Goals are kept greatest meanwhile: an exchange takes the column by which they become less as slowly as possible. The last one is the negative sum of the variables of the first columns; the objective comes before it, if it is at its greatest for these columns.
 func (t *tableau) makeFeasible() int {
-	goal := make([]integer.Int, len(t.columns)+1)
+	sum := make([]integer.Int, len(t.columns)+1)
 	for s, variable := range t.columns {
 		if t.isSlack(variable) {
-			goal[s] = integer.Neg(t.denominator)
+			sum[s] = integer.Neg(t.denominator)
 		}
 	}
-	t.rows = append(t.rows, goal)
+	goals := [][]integer.Int{sum}
+	if t.promising(false) < 0 {
+		goals = [][]integer.Int{t.goal(), sum}
+	}
+	t.rows = append(t.rows, sum)
 	defer func() { t.rows = t.rows[:len(t.rows)-1] }()
 	for takesLeast := false; ; {
 		r := t.negative(takesLeast)
 		if r < 0 {
 			return -1
 		}
-		s := t.columnFor(r, goal)
+		s := t.columnFor(r, goals)
 		if s < 0 {
 			return r
 		}
-		takesLeast = goal[s].Sign() == 0
+		takesLeast = !slices.ContainsFunc(goals, func(goal []integer.Int) bool { return goal[s].Sign() != 0 })
 		t.exchange(r, s)
 	}
 }
@@ -66,18 +72,30 @@ func (t *tableau) negative(takesLeast bool) int {
 	return best
 }
 
-// columnFor returns the column whose variable makes that of a row greater, at the least expense of a goal, or -1; of several ones that with the least index.
-func (t *tableau) columnFor(r int, goal []integer.Int) int {
+// columnFor returns the column whose variable makes that of a row greater, at the least expense of the first of some goals for which columns differ, or -1; of several ones that with the least index.
+func (t *tableau) columnFor(r int, goals [][]integer.Int) int {
 	best := -1
 	for s, variable := range t.columns {
 		if !t.isSlack(variable) || t.rows[r][s].Sign() <= 0 {
 			continue
 		}
-		if best < 0 || isBetter(integer.Neg(goal[s]), t.rows[r][s], variable, integer.Neg(goal[best]), t.rows[r][best], t.columns[best]) {
+		if best < 0 || t.isCheaper(r, s, best, goals) {
 			best = s
 		}
 	}
 	return best
+}
+
+// isCheaper reports whether the variable of a column makes that of a row greater at less expense than that of another column.
+func (t *tableau) isCheaper(r, s, than int, goals [][]integer.Int) bool {
+	for _, goal := range goals {
+		// The goals fall, so that their numbers are not positive.
+		a, b := integer.Mul(goal[s], t.rows[r][than]), integer.Mul(goal[than], t.rows[r][s])
+		if c := integer.Compare(a, b); c != 0 {
+			return c > 0
+		}
+	}
+	return t.columns[s] < t.columns[than]
 }
 
 // isBetter reports whether a / b is less than c / d, or equal to it, while the index i is less than k.

@@ -113,21 +113,29 @@ func replace(row, by []integer.Int, pivot, factor, before integer.Int) {
 	}
 }
 
-// freeVariables makes the variables of the program basic, as far as a slack depends on them, by the shortest rows that are possible. (The others can have any value without a change of any row.)
+// freeVariables makes the variables of the program basic, as far as a slack depends on them, by the shortest rows that are possible. (The others can have any value without a change of any row.) Of rows as short as one another, one is taken whose slack would make the objective less.
 func (t *tableau) freeVariables() {
 	lengths := make([]int, len(t.basic))
 	for i := range lengths {
 		for _, a := range t.rows[i][:t.variables] {
 			if a.Sign() != 0 {
-				lengths[i]++
+				lengths[i] += 2
 			}
 		}
 	}
 	for s := range t.columns {
-		best := -1
+		best, least := -1, 0
 		for i := range t.basic {
-			if t.isSlack(t.basic[i]) && t.rows[i][s].Sign() != 0 && (best < 0 || lengths[i] < lengths[best]) {
-				best = i
+			sign := t.rows[i][s].Sign()
+			if !t.isSlack(t.basic[i]) || sign == 0 {
+				continue
+			}
+			length := lengths[i]
+			if sign*t.goal()[s].Sign() > 0 {
+				length++
+			}
+			if best < 0 || length < least {
+				best, least = i, length
 			}
 		}
 		if best >= 0 {

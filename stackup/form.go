@@ -1,0 +1,164 @@
+package stackup
+
+import (
+	"dowel/api"
+	"dowel/rational"
+)
+
+// sign is how a form is taken: as it is for the greatest value, and multiplied by -1 for the least one.
+type sign func(rational.Rat) rational.Rat
+
+func plus(a rational.Rat) rational.Rat { return a }
+
+func minus(a rational.Rat) rational.Rat { return rational.Neg(a) }
+
+func signOf(greatest bool) sign {
+	if greatest {
+		return plus
+	}
+	return minus
+}
+
+// read returns a number that has been checked.
+func read(n api.Number) rational.Rat {
+	a, _ := rational.Parse(n)
+	return a
+}
+
+// CheckForm returns OK for a valid form of n dimensions.
+func CheckForm(n int, f api.Form) api.Errno {
+	if n < 0 || n > api.MaxDimensions {
+		return api.ErrRange
+	}
+	if _, e := rational.Parse(f.Constant); e != api.OK {
+		return e
+	}
+	if len(f.Terms) > api.MaxTerms {
+		return api.ErrLimit
+	}
+	for i, t := range f.Terms {
+		if t.Dimension < 0 || t.Dimension >= n {
+			return api.ErrNotFound
+		}
+		if i > 0 && t.Dimension <= f.Terms[i-1].Dimension {
+			return api.ErrOrder
+		}
+		factor, e := rational.Parse(t.Factor)
+		if e != api.OK {
+			return e
+		}
+		if factor.Sign() == 0 {
+			return api.ErrZero
+		}
+	}
+	return api.OK
+}
+
+// readVector returns a vector of n numbers.
+func readVector(n int, at []api.Number) ([]rational.Rat, api.Errno) {
+	if len(at) != n {
+		return nil, api.ErrSize
+	}
+	return rational.Reads(at)
+}
+
+// Value returns the value of a form at a vector of n numbers.
+func Value(n int, f api.Form, at []api.Number) (api.Number, api.Errno) {
+	if e := CheckForm(n, f); e != api.OK {
+		return "", e
+	}
+	x, e := readVector(n, at)
+	if e != api.OK {
+		return "", e
+	}
+	return value(f, x).Number(), api.OK
+}
+
+// value returns the value of a valid form.
+func value(f api.Form, x []rational.Rat) rational.Rat {
+	sum := read(f.Constant)
+	for _, t := range f.Terms {
+		sum = rational.Add(sum, rational.Mul(read(t.Factor), x[t.Dimension]))
+	}
+	return sum
+}
+
+// factors returns the factor of each of n dimensions.
+func factors(n int, f api.Form) []rational.Rat {
+	l := make([]rational.Rat, n)
+	for _, t := range f.Terms {
+		l[t.Dimension] = read(t.Factor)
+	}
+	return l
+}
+
+// Add returns the sum of two forms.
+func Add(f, g api.Form) (api.Form, api.Errno) {
+	for _, x := range []api.Form{f, g} {
+		if e := CheckForm(api.MaxDimensions, x); e != api.OK {
+			return api.Form{}, e
+		}
+	}
+	sums := factors(api.MaxDimensions, f)
+	for i, factor := range factors(api.MaxDimensions, g) {
+		sums[i] = rational.Add(sums[i], factor)
+	}
+	return join(rational.Add(read(f.Constant), read(g.Constant)), sums)
+}
+
+// Scale returns a multiple of a form.
+func Scale(f api.Form, factor api.Number) (api.Form, api.Errno) {
+	if e := CheckForm(api.MaxDimensions, f); e != api.OK {
+		return api.Form{}, e
+	}
+	by, e := rational.Parse(factor)
+	if e != api.OK {
+		return api.Form{}, e
+	}
+	multiples := factors(api.MaxDimensions, f)
+	for i, a := range multiples {
+		multiples[i] = rational.Mul(a, by)
+	}
+	return join(rational.Mul(read(f.Constant), by), multiples)
+}
+
+// join returns a form of its constant and the factors of all dimensions, of which there are never more than terms. Error: ErrLong.
+func join(constant rational.Rat, l []rational.Rat) (api.Form, api.Errno) {
+	f := api.Form{Constant: constant.Number()}
+	isLong := len(f.Constant) > api.MaxNumber
+	for i, factor := range l {
+		if factor.Sign() == 0 {
+			continue
+		}
+		t := api.Term{Dimension: i, Factor: factor.Number()}
+		isLong = isLong || len(t.Factor) > api.MaxNumber
+		f.Terms = append(f.Terms, t)
+	}
+	if isLong {
+		return api.Form{}, api.ErrLong
+	}
+	return f, api.OK
+}
+
+// program returns the linear program whose greatest value, behind the constant, is that of a form with a sign.
+func program(p Problem, f api.Form, sign sign) api.Program {
+	n := len(p.Dimensions)
+	row := func(l []rational.Rat, bound rational.Rat) api.Row {
+		return api.Row{Coefficients: rational.Numbers(l), Bound: bound.Number()}
+	}
+	var rows []api.Row
+	for i := range n {
+		unit, opposite := make([]rational.Rat, n), make([]rational.Rat, n)
+		unit[i], opposite[i] = rational.From(1), rational.From(-1)
+		d := p.Dimensions[i]
+		rows = append(rows, row(unit, rational.From(d.Nominal+d.Upper)), row(opposite, rational.From(-d.Nominal-d.Lower)))
+	}
+	for _, c := range p.Constraints {
+		rows = append(rows, row(factors(n, c.Form), rational.Neg(read(c.Form.Constant))))
+	}
+	objective := factors(n, f)
+	for i, a := range objective {
+		objective[i] = sign(a)
+	}
+	return api.Program{Objective: rational.Numbers(objective), Rows: rows}
+}
