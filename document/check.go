@@ -2,6 +2,7 @@ package document
 
 import (
 	"dowel/api"
+	"dowel/margin"
 	"dowel/naming"
 	"dowel/rational"
 )
@@ -151,37 +152,11 @@ func checkRequirements(p api.Product) api.Errno {
 		if e := CheckExpr(p.Dimensions, r.Gap); e != api.OK {
 			return e
 		}
-		if e := checkBounds(r.Low, r.High); e != api.OK {
+		if e := margin.Check(r.Low, r.High); e != api.OK {
 			return e
 		}
 	}
 	return api.OK
-}
-
-// checkBounds returns the error of two bounds, of which each can be empty.
-func checkBounds(low, high api.Number) api.Errno {
-	for _, n := range []api.Number{low, high} {
-		if n == "" {
-			continue
-		}
-		if _, e := rational.Parse(n); e != api.OK {
-			return e
-		}
-	}
-	if areReversed(low, high) {
-		return api.ErrOrder
-	}
-	return api.OK
-}
-
-// areReversed reports whether neither bound is empty and the lower one is greater.
-func areReversed(low, high api.Number) bool {
-	if low == "" || high == "" {
-		return false
-	}
-	a, _ := rational.Parse(low)
-	b, _ := rational.Parse(high)
-	return rational.Compare(a, b) > 0
 }
 
 // checkForm returns the error of a form of n dimensions.

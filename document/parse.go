@@ -5,6 +5,7 @@ import (
 
 	"dowel/api"
 	"dowel/lexer"
+	"dowel/margin"
 	"dowel/naming"
 )
 
@@ -224,7 +225,7 @@ func (r *reader) readRequirement() {
 	if r.Take("to") {
 		q.High = r.number()
 	}
-	r.end(areReversed(q.Low, q.High))
+	r.end(margin.Check(q.Low, q.High) == api.ErrOrder)
 	r.product.Requirements = append(r.product.Requirements, q)
 }
 

@@ -3,21 +3,8 @@ package stackup
 import (
 	"dowel/api"
 	"dowel/rational"
+	"dowel/system"
 )
-
-// sign is how a form is taken: as it is for the greatest value, and multiplied by -1 for the least one.
-type sign func(rational.Rat) rational.Rat
-
-func plus(a rational.Rat) rational.Rat { return a }
-
-func minus(a rational.Rat) rational.Rat { return rational.Neg(a) }
-
-func signOf(greatest bool) sign {
-	if greatest {
-		return plus
-	}
-	return minus
-}
 
 // read returns a number that has been checked.
 func read(n api.Number) rational.Rat {
@@ -141,24 +128,6 @@ func join(constant rational.Rat, l []rational.Rat) (api.Form, api.Errno) {
 }
 
 // program returns the linear program whose greatest value, behind the constant, is that of a form with a sign.
-func program(p Problem, f api.Form, sign sign) api.Program {
-	n := len(p.Dimensions)
-	row := func(l []rational.Rat, bound rational.Rat) api.Row {
-		return api.Row{Coefficients: rational.Numbers(l), Bound: bound.Number()}
-	}
-	var rows []api.Row
-	for i := range n {
-		unit, opposite := make([]rational.Rat, n), make([]rational.Rat, n)
-		unit[i], opposite[i] = rational.From(1), rational.From(-1)
-		d := p.Dimensions[i]
-		rows = append(rows, row(unit, rational.From(d.Nominal+d.Upper)), row(opposite, rational.From(-d.Nominal-d.Lower)))
-	}
-	for _, c := range p.Constraints {
-		rows = append(rows, row(factors(n, c.Form), rational.Neg(read(c.Form.Constant))))
-	}
-	objective := factors(n, f)
-	for i, a := range objective {
-		objective[i] = sign(a)
-	}
-	return api.Program{Objective: rational.Numbers(objective), Rows: rows}
+func program(p Problem, f api.Form, sign system.Sign) api.Program {
+	return api.Program{Objective: system.Coefficients(len(p.Dimensions), f, sign), Rows: system.Rows(p.Dimensions, p.Constraints)}
 }
