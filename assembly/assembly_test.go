@@ -8,6 +8,7 @@ import (
 
 	"dowel/api"
 	"dowel/cell"
+	"dowel/copies"
 	"dowel/meeting"
 	"dowel/motion"
 	"dowel/solid"
@@ -37,7 +38,7 @@ func cubes(places ...api.Number) api.Assembly {
 
 // with returns the assembly that a function has changed.
 func with(a api.Assembly, f func(*api.Assembly)) api.Assembly {
-	b := clone(a)
+	b := copies.Assembly(a)
 	f(&b)
 	return b
 }
@@ -273,7 +274,7 @@ func TestEqual(t *testing.T) {
 			t.Errorf("%d: Equal", i)
 		}
 	}
-	if !Equal(a, clone(a)) || !Equal(api.Assembly{}, api.Assembly{Parts: []api.Part{}, Instances: []api.Instance{}}) || !Equal(api.Assembly{Parts: []api.Part{{}}}, api.Assembly{Parts: []api.Part{{Cells: []api.Cell{}}}}) {
+	if !Equal(a, copies.Assembly(a)) || !Equal(api.Assembly{}, api.Assembly{Parts: []api.Part{}, Instances: []api.Instance{}}) || !Equal(api.Assembly{Parts: []api.Part{{}}}, api.Assembly{Parts: []api.Part{{Cells: []api.Cell{}}}}) {
 		t.Error("Equal")
 	}
 }

@@ -4,33 +4,16 @@ import (
 	"slices"
 
 	"dowel/api"
+	"dowel/copies"
 	"dowel/motion"
 )
-
-func clonePart(p api.Part) api.Part {
-	cells := make([]api.Cell, len(p.Cells))
-	for i, c := range p.Cells {
-		cells[i].Vertices = slices.Clone(c.Vertices)
-	}
-	p.Cells = cells
-	return p
-}
-
-func clone(a api.Assembly) api.Assembly {
-	var b api.Assembly
-	for _, p := range a.Parts {
-		b.Parts = append(b.Parts, clonePart(p))
-	}
-	b.Instances = slices.Clone(a.Instances)
-	return b
-}
 
 // Select returns the assembly with some of the instances.
 func Select(a api.Assembly, set []int) (api.Assembly, api.Errno) {
 	if e := Check(a); e != api.OK {
 		return api.Assembly{}, e
 	}
-	b := clone(a)
+	b := copies.Assembly(a)
 	b.Instances = nil
 	for i, k := range set {
 		if k < 0 || k >= len(a.Instances) {
@@ -52,7 +35,7 @@ func Move(a api.Assembly, p api.Placement) (api.Assembly, api.Errno) {
 	if e := motion.Check(p); e != api.OK {
 		return api.Assembly{}, e
 	}
-	b := clone(a)
+	b := copies.Assembly(a)
 	for i, x := range b.Instances {
 		place, e := motion.Join(p, x.Place)
 		if e != api.OK {
@@ -74,7 +57,7 @@ func Replace(a api.Assembly, index int, p api.Placement) (api.Assembly, api.Errn
 	if e := motion.Check(p); e != api.OK {
 		return api.Assembly{}, e
 	}
-	b := clone(a)
+	b := copies.Assembly(a)
 	b.Instances[index].Place = p
 	return b, api.OK
 }

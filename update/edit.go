@@ -6,6 +6,7 @@ import (
 	"dowel/api"
 	"dowel/assembly"
 	"dowel/blocking"
+	"dowel/copies"
 )
 
 // edit performs an edit on a copy, and takes this over if there is no error. The index of the instance that the edit removes is removed; otherwise it is -1.
@@ -40,7 +41,7 @@ func (t *Table) Replace(index int, x api.Instance) api.Errno {
 		if !c.hasInstance(index) {
 			return api.ErrRange
 		}
-		a := clone(c.assembly)
+		a := copies.Assembly(c.assembly)
 		a.Instances[index] = x
 		return c.change(a, func(p place) bool { return p.from == index || p.to == index })
 	})
@@ -49,7 +50,7 @@ func (t *Table) Replace(index int, x api.Instance) api.Errno {
 // Add adds an instance behind all others.
 func (t *Table) Add(x api.Instance) api.Errno {
 	return t.edit(-1, func(c *Table) api.Errno {
-		a := clone(c.assembly)
+		a := copies.Assembly(c.assembly)
 		index := len(a.Instances)
 		a.Instances = append(a.Instances, x)
 		return c.change(a, func(p place) bool { return p.from == index || p.to == index })
@@ -69,7 +70,7 @@ func (t *Table) Remove(index int) api.Errno {
 			}
 		}
 		c.arcs = arcs
-		a := clone(c.assembly)
+		a := copies.Assembly(c.assembly)
 		a.Instances = slices.Delete(a.Instances, index, index+1)
 		return c.change(a, func(place) bool { return false })
 	})
@@ -97,8 +98,8 @@ func (t *Table) Part(p api.Part) api.Errno {
 		if at < 0 {
 			return api.ErrUnknown
 		}
-		a := clone(c.assembly)
-		a.Parts[at] = clonePart(p)
+		a := copies.Assembly(c.assembly)
+		a.Parts[at] = copies.Part(p)
 		isOfPart := func(i int) bool { return a.Instances[i].Part == p.Name }
 		return c.change(a, func(q place) bool { return isOfPart(q.from) || isOfPart(q.to) })
 	})
