@@ -13,6 +13,17 @@ func Is(s string) bool {
 	return len(s) > 0 && len(s) <= api.MaxName
 }
 
+// IsFile reports whether a string is the name of a file: 1 to api.MaxName bytes from a to z, from 0 to 9, periods and hyphens.
+func IsFile(s string) bool {
+	for i := range len(s) {
+		isLetter := s[i] >= 'a' && s[i] <= 'z' || s[i] >= '0' && s[i] <= '9' || s[i] == '.' || s[i] == '-'
+		if !isLetter {
+			return false
+		}
+	}
+	return len(s) > 0 && len(s) <= api.MaxName
+}
+
 // Set is names that must not occur again.
 type Set map[string]bool
 

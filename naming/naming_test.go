@@ -15,6 +15,14 @@ func TestIs(t *testing.T) {
 	}
 }
 
+func TestIsFile(t *testing.T) {
+	for s, want := range map[string]bool{"": false, "a": true, "z-0.9": true, "..": true, "-": true, "A": false, "a_b": false, "a b": false, "a/b": false, "`": false, "{": false, "ä": false, strings.Repeat("x", api.MaxName): true, strings.Repeat("x", api.MaxName+1): false} {
+		if IsFile(s) != want {
+			t.Errorf("IsFile(%q) = %t", s, !want)
+		}
+	}
+}
+
 func TestSet(t *testing.T) {
 	s := Set{}
 	for i, c := range []struct {
