@@ -60,3 +60,17 @@ func Product(p api.Product) api.Product {
 	p.Requirements = each(p.Requirements, Requirement)
 	return p
 }
+
+// Plan returns a copy of a plan.
+func Plan(p api.Plan) api.Plan {
+	p.Kind.Directions = slices.Clone(p.Kind.Directions)
+	p.Steps = each(p.Steps, func(s api.Step) api.Step {
+		s.Moved = slices.Clone(s.Moved)
+		return s
+	})
+	p.Splits = each(p.Splits, func(s api.Split) api.Split {
+		s.Whole, s.Moved = slices.Clone(s.Whole), slices.Clone(s.Moved)
+		return s
+	})
+	return p
+}

@@ -5,6 +5,7 @@ import (
 
 	"dowel/api"
 	"dowel/document"
+	"dowel/plan"
 )
 
 func product() api.Product {
@@ -36,5 +37,25 @@ func TestProduct(t *testing.T) {
 	q.Requirements[0].Gap.Args[0].Form.Terms[0].Factor = "9"
 	if !document.Equal(p, product()) {
 		t.Errorf("a copy shares memory: %v", p)
+	}
+}
+
+func TestPlan(t *testing.T) {
+	up := api.Point{"0", "0", "1"}
+	steps := func() api.Plan {
+		return api.Plan{Kind: api.Kind{Blocking: api.Far, Directions: []api.Point{up}}, Most: 1, Steps: []api.Step{{Moved: []int{1}, Direction: up, Distance: "2"}}}
+	}
+	splits := func() api.Plan {
+		return api.Plan{Kind: api.Kind{Blocking: api.Local}, Splits: []api.Split{{Whole: []int{0, 1}, Moved: []int{1}, Direction: up}}}
+	}
+	p, q := steps(), splits()
+	a, b := Plan(p), Plan(q)
+	if !plan.Equal(a, p) || !plan.Equal(b, q) || !plan.Equal(Plan(api.Plan{}), api.Plan{}) {
+		t.Fatalf("Plan = %v, %v", a, b)
+	}
+	a.Kind.Directions[0][0], a.Steps[0].Moved[0] = "9", 9
+	b.Splits[0].Whole[0], b.Splits[0].Moved[0] = 9, 9
+	if !plan.Equal(p, steps()) || !plan.Equal(q, splits()) {
+		t.Errorf("a copy shares memory: %v, %v", p, q)
 	}
 }

@@ -5,7 +5,7 @@ import (
 	"strings"
 
 	"dowel/api"
-	"dowel/lexer"
+	"dowel/label"
 	"dowel/naming"
 )
 
@@ -15,20 +15,20 @@ func Print(p api.Product) (string, api.Errno) {
 		return "", e
 	}
 	w := &writer{dimensions: p.Dimensions}
-	w.add("product ", nameText(p.Name), ";\n")
+	w.add("product ", label.Text(p.Name), ";\n")
 	for _, part := range p.Assembly.Parts {
 		w.part(part)
 	}
 	for _, i := range p.Assembly.Instances {
-		w.add("instance ", nameText(i.Name), " of ", nameText(i.Part), " turn ", vectorText(i.Place.Turn[:]))
+		w.add("instance ", label.Text(i.Name), " of ", label.Text(i.Part), " turn ", vectorText(i.Place.Turn[:]))
 		shift := i.Place.Shift
 		w.add(" shift (", string(shift[0]), ", ", string(shift[1]), ", ", string(shift[2]), ");\n")
 	}
 	for _, d := range p.Dimensions {
-		w.add("dimension ", nameText(d.Name), " = ", strconv.Itoa(d.Nominal), " [", strconv.Itoa(d.Lower), ", ", strconv.Itoa(d.Upper), "];\n")
+		w.add("dimension ", label.Text(d.Name), " = ", strconv.Itoa(d.Nominal), " [", strconv.Itoa(d.Lower), ", ", strconv.Itoa(d.Upper), "];\n")
 	}
 	for _, c := range p.Constraints {
-		w.add("constraint ", nameText(c.Name), ": ")
+		w.add("constraint ", label.Text(c.Name), ": ")
 		w.form(c.Form)
 		w.add(" <= 0;\n")
 	}
@@ -70,15 +70,6 @@ func checkNames(dimensions []api.Dimension) api.Errno {
 	return api.OK
 }
 
-// nameText returns a name as a word if it is one, and otherwise as a string.
-func nameText(name string) string {
-	if l, _, _, e := lexer.Scan(name); e == api.OK && l[0].Kind == lexer.Word && l[0].Text == name {
-		return name
-	}
-	quoted, _ := lexer.Quote(name)
-	return quoted
-}
-
 // vectorText returns integers in parentheses.
 func vectorText(l []int) string {
 	words := make([]string, len(l))
@@ -109,7 +100,7 @@ func (w *writer) text() (string, api.Errno) {
 }
 
 func (w *writer) part(part api.Part) {
-	w.add("part ", nameText(part.Name), " density ", strconv.Itoa(part.Density), " {\n")
+	w.add("part ", label.Text(part.Name), " density ", strconv.Itoa(part.Density), " {\n")
 	for _, c := range part.Cells {
 		w.add("  cell")
 		for _, v := range c.Vertices {
@@ -121,7 +112,7 @@ func (w *writer) part(part api.Part) {
 }
 
 func (w *writer) requirement(r api.Requirement) {
-	w.add("require ", nameText(r.Name), ": ")
+	w.add("require ", label.Text(r.Name), ": ")
 	w.expr(r.Gap)
 	if r.Low != "" {
 		w.add(" from ", string(r.Low))
@@ -139,7 +130,7 @@ func (w *writer) form(f api.Form) {
 		if size[0] == '-' {
 			sign, size = " - ", size[1:]
 		}
-		w.add(sign, size, " * ", nameText(w.dimensions[t.Dimension].Name))
+		w.add(sign, size, " * ", label.Text(w.dimensions[t.Dimension].Name))
 	}
 	w.add("]")
 }

@@ -73,20 +73,21 @@ func (f *forest) steps(feature int) []Step { return f.neighbours[feature] }
 
 // path returns the path between two features of a part.
 func (f *forest) path(from, to int) []Step {
-	path, _ := follow(from, to, -1, f.steps, f.end)
+	isEnd := func(feature int) bool { return feature == to }
+	path, _ := follow(from, -1, isEnd, f.steps, f.end)
 	return path
 }
 
-// follow returns the steps from one feature to another one that do not begin with a link, if there are any.
-func follow(from, to, without int, steps func(int) []Step, end func(Step) int) ([]Step, bool) {
-	if from == to {
+// follow returns the steps from a feature to one at which the path ends, that do not begin with a link, if there are any.
+func follow(from, without int, isEnd func(int) bool, steps func(int) []Step, end func(Step) int) ([]Step, bool) {
+	if isEnd(from) {
 		return nil, true
 	}
 	for _, s := range steps(from) {
 		if s.Link == without {
 			continue
 		}
-		if rest, ok := follow(end(s), to, s.Link, steps, end); ok {
+		if rest, ok := follow(end(s), s.Link, isEnd, steps, end); ok {
 			return append([]Step{s}, rest...), true
 		}
 	}
