@@ -29,21 +29,27 @@ func fields() map[int]has {
 	}
 }
 
-// degrees returns the degrees of a kind; -1 for Other, which has different ones.
-func degrees(kind int) int {
+// degrees returns the least and the greatest number of degrees of a kind.
+func degrees(kind int) (least, greatest int) {
 	switch kind {
-	case Fixed:
-		return 0
 	case Revolute, Prismatic, Helical:
-		return 1
+		return 1, 1
 	case Cylindrical:
-		return 2
+		return 2, 2
 	case Spherical, Planar:
-		return 3
+		return 3, 3
 	case Free:
-		return 6
+		return 6, 6
+	case Other:
+		return 2, 5
 	}
-	return -1
+	return 0, 0
+}
+
+// fits reports whether a pair of a kind can have a number of degrees.
+func fits(kind, n int) bool {
+	least, greatest := degrees(kind)
+	return least <= n && n <= greatest
 }
 
 // guesses returns, in the order of the kinds, functions that return the pair of a kind that could have some lines (in reduced form); so a line that turns comes first, if there is one.
@@ -65,7 +71,7 @@ func guesses() []func([]twist.Twist) joint {
 
 // ball returns the spherical pair whose rotations about the directions of the coordinates have the velocities of three lines.
 func ball(lines []twist.Twist) joint {
-	if len(lines) != degrees(Spherical) {
+	if !fits(Spherical, len(lines)) {
 		return joint{Kind: Other}
 	}
 	return joint{Kind: Spherical, point: vector.Vec{lines[1].Linear[2], lines[2].Linear[0], lines[0].Linear[1]}}
@@ -147,7 +153,7 @@ func read(j Joint) (joint, api.Errno) {
 	if j.Kind < Fixed || j.Kind > Other {
 		return joint{}, api.ErrKind
 	}
-	if want := degrees(j.Kind); j.Degrees != want && (j.Kind != Other || j.Degrees < 2 || j.Degrees > 5) {
+	if !fits(j.Kind, j.Degrees) {
 		return joint{}, api.ErrRange
 	}
 	if j.Kind == Free && !j.Closed {

@@ -1,6 +1,7 @@
 package pair
 
 import (
+	"math"
 	"math/rand"
 	"slices"
 	"strings"
@@ -167,6 +168,33 @@ func TestCheck(t *testing.T) {
 		}
 		if j, e := Move(c.j, api.Placement{}); j != (Joint{}) || e != c.e {
 			t.Errorf("%d: Move: %d", i, e)
+		}
+	}
+}
+
+// P19.4, P19.5, P19.6: of all numbers of degrees, only those of the table are valid.
+func TestDegrees(t *testing.T) {
+	stay := api.Placement{Turn: [4]int{1, 0, 0, 0}, Shift: api.Point{"0", "0", "0"}}
+	valid := map[int][]int{Fixed: {0}, Revolute: {1}, Prismatic: {1}, Helical: {1}, Cylindrical: {2}, Spherical: {3}, Planar: {3}, Free: {6}, Other: {2, 3, 4, 5}}
+	for _, j := range append(samples(), joint1(Other, 2, false, "", "", "")) {
+		for _, n := range []int{math.MinInt, -2, -1, 0, 1, 2, 3, 4, 5, 6, 7, 8, math.MaxInt} {
+			j.Degrees = n
+			want := api.ErrRange
+			if slices.Contains(valid[j.Kind], n) {
+				want = api.OK
+			}
+			if e := Check(j); e != want {
+				t.Errorf("%+v: Check: %d, not %d", j, e, want)
+			}
+			if want == api.OK {
+				continue
+			}
+			if l, e := Lines(j); l != nil || e != want {
+				t.Errorf("%+v: Lines: %v, %d", j, l, e)
+			}
+			if k, e := Move(j, stay); k != (Joint{}) || e != want {
+				t.Errorf("%+v: Move: %v, %d", j, k, e)
+			}
 		}
 	}
 }
